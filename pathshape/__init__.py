@@ -1,0 +1,1 @@
+"""Pathshape: what ways can find in trees of a shape."""

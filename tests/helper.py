@@ -1,0 +1,115 @@
+"""What the tests of the reader share."""
+
+import unittest
+
+from pathshape import errors
+
+KEPT_WORDS = ["start", "rule", "row", "mix", "many", "any", "kind", "not", "both", "either", "way", "mark"]
+
+NO_NAMES = KEPT_WORDS + ["A", "aB", "a1", "1", "a_b", "a-b", "a.b", "~", "'a'", "()", "(a)", "abcdefghi"]
+
+NO_TEXTS = [0, 1, -3, None, True, False, [], ["(a)"], (), ("(a)",), ("a", ()), {}, b"(a)", 1.5, object()]
+
+OTHER_ERRORS = (errors.NoShape, errors.NoSort, errors.NoRow, errors.NoName,
+                errors.Twice, errors.NoRule, errors.TooGreat)
+
+
+def words_of(text):
+    """The words of a text that has a blank, a line end or a bracket between any two of them."""
+    return text.replace("(", " ( ").replace(")", " ) ").split()
+
+
+def tight(words):
+    """The words with no blanks about brackets, and one between any other two."""
+    text = " ".join(words)
+    for bracket in "()":
+        text = text.replace(" " + bracket, bracket).replace(bracket + " ", bracket)
+    return text
+
+
+def spellings(text):
+    """The same words with all sorts of blanks and line ends about them."""
+    words = words_of(text)
+    gaps = [" ", "  ", "     ", "\n", "\n\n", " \n ", "\n  \n"]
+    bodies = [tight(words)] + [gap.join(words) for gap in gaps]
+    return [gap + body for body in bodies for gap in [""] + gaps] + [
+        body + gap for body in bodies for gap in gaps] + [
+        gap + body + gap for body in bodies for gap in gaps]
+
+
+def without_one(words, chosen):
+    """The texts that lack one of the words."""
+    return [tight(words[:k] + words[k + 1:]) for k in range(len(words)) if words[k] in chosen]
+
+
+def with_one_more(words, added):
+    """The texts that have one word more, wherever it may stand."""
+    return [tight(words[:k] + [added] + words[k:]) for k in range(len(words) + 1)]
+
+
+class ReadCase(unittest.TestCase):
+    """Checks for one of the read functions, which a test case tells by `read`."""
+
+    def read(self, text):
+        raise NotImplementedError
+
+    def assert_read(self, text, value):
+        self.assertEqual(self.read(text), value, repr(text))
+        self.assert_plain(self.read(text))
+
+    def assert_plain(self, value):
+        """Equal isn't enough: True equals 1, and a value of another class may equal a tuple."""
+        if type(value) is tuple:
+            for part in value:
+                self.assert_plain(part)
+        elif value is not None:
+            self.assertIn(type(value), (int, str))
+
+    def assert_spelled(self, text, value):
+        for spelling in spellings(text):
+            self.assert_read(spelling, value)
+
+    def assert_refused(self, text):
+        shown = repr(text)[:200]
+        try:
+            value = self.read(text)
+        except errors.NoText as error:
+            self.assertIsInstance(error, errors.PathError)
+            self.assertIsInstance(error, ValueError)
+            self.assertNotIsInstance(error, OTHER_ERRORS)
+        else:
+            self.fail(f"{shown} was read to {value!r}")
+
+    def assert_all_refused(self, texts):
+        for text in texts:
+            with self.subTest(text=repr(text)[:200]):
+                self.assert_refused(text)
+
+    def assert_frail(self, text):
+        """Of a text that is read: it is refused with one word less, or a bracket or a word more."""
+        words = words_of(text)
+        self.read(text)
+        self.assert_all_refused(without_one(words, words))
+        self.assert_all_refused(with_one_more(words, "("))
+        self.assert_all_refused(with_one_more(words, ")"))
+        self.assert_all_refused(with_one_more(words, "mark"))
+        self.assert_all_refused(tight(words[:k] + [words[k]] + words[k:]) for k in range(len(words)))
+        self.assert_all_refused([text + text, text + " " + text, text + "\n" + text, "(" + text + ")"])
+        self.assert_all_refused([text + " a", "a " + text, text + " any", text + "()", "()" + text,
+                                 text + " 0", text + " (a)", "(a) " + text])
+        self.assert_all_refused([")" + text + "(", tight(words[1:-1]), tight([")"] + words[1:-1] + ["("])])
+
+    def assert_nothing_refused_alike(self):
+        """What writes none, whichever of the three is read."""
+        self.assert_all_refused(["", " ", "   ", "\n", " \n \n", "(", ")", "()", ")(", "( )", "(())", "()()",
+                                 "a", "a b", "any", "mark", "way", "start", "0", "many", "(0)", "(any)",
+                                 "(mark)", "(many)", "[a]", "{a}", "<a>", "\"(a)\"", "(A)", "-", "~"])
+        self.assert_all_refused(NO_TEXTS)
+        handed_in = [["(", "a", ")"], {"(a)": "(a)"}]
+        self.assert_all_refused(handed_in)
+        self.assertEqual(handed_in, [["(", "a", ")"], {"(a)": "(a)"}])
+
+    def assert_deep_nothing_refused(self):
+        """Six thousand signs that write none, however deep they nest."""
+        self.assert_all_refused(["(" * 6000, ")" * 6000, "(" * 3000 + ")" * 3000, "()" * 3000,
+                                 ")" * 3000 + "(" * 3000, "(a" * 3000, "a" * 6000, " " * 6000, "\n" * 6000])
