@@ -1,5 +1,6 @@
-"""What the tests of the reader share."""
+"""What the tests share."""
 
+import random
 import unittest
 
 from pathshape import errors
@@ -10,8 +11,8 @@ NO_NAMES = KEPT_WORDS + ["A", "aB", "a1", "1", "a_b", "a-b", "a.b", "~", "'a'", 
 
 NO_TEXTS = [0, 1, -3, None, True, False, [], ["(a)"], (), ("(a)",), ("a", ()), {}, b"(a)", 1.5, object()]
 
-OTHER_ERRORS = (errors.NoShape, errors.NoSort, errors.NoRow, errors.NoName,
-                errors.Twice, errors.NoRule, errors.TooGreat)
+REFUSALS = (errors.NoText, errors.NoShape, errors.NoSort, errors.NoRow, errors.NoName, errors.Twice, errors.NoRule,
+            errors.TooGreat)
 
 
 def words_of(text):
@@ -47,7 +48,64 @@ def with_one_more(words, added):
     return [tight(words[:k] + [added] + words[k:]) for k in range(len(words) + 1)]
 
 
-class ReadCase(unittest.TestCase):
+def chain(size, kind="a"):
+    """A tree of so many places, each but the last with one part."""
+    tree = (kind, ())
+    for number in range(size - 1):
+        tree = (kind, (tree,))
+    return tree
+
+
+def broad(size, kind="a", part="b"):
+    """A tree of so many places, all but the top being parts of the top."""
+    return (kind, ((part, ()),) * (size - 1))
+
+
+def rows_of_trees(size, kinds):
+    """All rows of trees with so many places together."""
+    if size == 0:
+        return [()]
+    return [(tree,) + rest for first in range(1, size + 1) for tree in all_trees(first, kinds)
+            for rest in rows_of_trees(size - first, kinds)]
+
+
+def all_trees(size, kinds):
+    """All trees of so many places with these kinds."""
+    return [(kind, parts) for kind in kinds for parts in rows_of_trees(size - 1, kinds)]
+
+
+def mixed_tree(size, kinds, seed):
+    """A tree of so many places, each a part of any one ahead of it; the same one for the same seed."""
+    chance = random.Random(seed)
+    above = [chance.randrange(number) for number in range(1, size)]
+    parts = [[] for number in range(size)]
+    for number in reversed(range(size)):
+        tree = (chance.choice(kinds), tuple(parts[number]))
+        if number > 0:
+            parts[above[number - 1]].insert(0, tree)
+    return tree
+
+
+class PlainCase(unittest.TestCase):
+    def assert_plain(self, value):
+        """Equal isn't enough: True equals 1, and a value of another class may equal a tuple."""
+        if type(value) is tuple:
+            for part in value:
+                self.assert_plain(part)
+        elif value is not None:
+            self.assertIn(type(value), (int, str))
+
+    def assert_refusal(self, refusal, call, *given):
+        """That the call is refused with this class and none of the others; gives the error."""
+        with self.assertRaises(refusal, msg=repr(given)[:200]) as caught:
+            call(*given)
+        self.assertIsInstance(caught.exception, errors.PathError)
+        self.assertIsInstance(caught.exception, ValueError)
+        self.assertEqual([one for one in REFUSALS if isinstance(caught.exception, one)], [refusal])
+        return caught.exception
+
+
+class ReadCase(PlainCase):
     """Checks for one of the read functions, which a test case tells by `read`."""
 
     def read(self, text):
@@ -57,28 +115,12 @@ class ReadCase(unittest.TestCase):
         self.assertEqual(self.read(text), value, repr(text))
         self.assert_plain(self.read(text))
 
-    def assert_plain(self, value):
-        """Equal isn't enough: True equals 1, and a value of another class may equal a tuple."""
-        if type(value) is tuple:
-            for part in value:
-                self.assert_plain(part)
-        elif value is not None:
-            self.assertIn(type(value), (int, str))
-
     def assert_spelled(self, text, value):
         for spelling in spellings(text):
             self.assert_read(spelling, value)
 
     def assert_refused(self, text):
-        shown = repr(text)[:200]
-        try:
-            value = self.read(text)
-        except errors.NoText as error:
-            self.assertIsInstance(error, errors.PathError)
-            self.assertIsInstance(error, ValueError)
-            self.assertNotIsInstance(error, OTHER_ERRORS)
-        else:
-            self.fail(f"{shown} was read to {value!r}")
+        self.assert_refusal(errors.NoText, self.read, text)
 
     def assert_all_refused(self, texts):
         for text in texts:
