@@ -1,6 +1,7 @@
 """What the tests share."""
 
 import random
+import re
 import unittest
 
 from pathshape import errors
@@ -10,6 +11,32 @@ KEPT_WORDS = ["start", "rule", "row", "mix", "many", "any", "kind", "not", "both
 NO_NAMES = KEPT_WORDS + ["A", "aB", "a1", "1", "a_b", "a-b", "a.b", "~", "'a'", "()", "(a)", "abcdefghi"]
 
 NO_TEXTS = [0, 1, -3, None, True, False, [], ["(a)"], (), ("(a)",), ("a", ()), {}, b"(a)", 1.5, object()]
+
+ANY = ("any",)
+
+# Texts of looks, and the looks that they write.
+LOOKS = {"any": ANY,
+         "(kind a)": ("kind", "a"),
+         "(kind down)": ("kind", "down"),
+         "(not any)": ("not", ANY),
+         "(both any (kind a))": ("both", ANY, ("kind", "a")),
+         "(both (kind a) any)": ("both", ("kind", "a"), ANY),
+         "(either (kind a) (kind b))": ("either", ("kind", "a"), ("kind", "b")),
+         "(way (down any))": ("way", (("down", ANY),)),
+         "(way (deep (kind a)) (later any))": ("way", (("deep", ("kind", "a")), ("later", ANY)))}
+
+# The text ahead of a look, the text behind it, and the value about it.
+NESTS = [("(not ", ")", lambda look: ("not", look)),
+         ("(both ", " any)", lambda look: ("both", look, ANY)),
+         ("(both any ", ")", lambda look: ("both", ANY, look)),
+         ("(either ", " (kind b))", lambda look: ("either", look, ("kind", "b"))),
+         ("(either (kind b) ", ")", lambda look: ("either", ("kind", "b"), look)),
+         ("(way (down ", "))", lambda look: ("way", (("down", look),))),
+         ("(way (deep any) (later ", "))", lambda look: ("way", (("deep", ANY), ("later", look)))),
+         ("(way (later ", ") (deep (kind c)))", lambda look: ("way", (("later", look), ("deep", ("kind", "c")))))]
+
+# Each low and high that an item may have.
+BOUNDS = [(0, 0), (0, 1), (0, 2), (0, None), (1, 1), (1, 2), (1, None), (2, 2), (2, None)]
 
 REFUSALS = (errors.NoText, errors.NoShape, errors.NoSort, errors.NoRow, errors.NoName, errors.Twice, errors.NoRule,
             errors.TooGreat)
@@ -84,6 +111,37 @@ def mixed_tree(size, kinds, seed):
         if number > 0:
             parts[above[number - 1]].insert(0, tree)
     return tree
+
+
+def some_look(chance, depth, ends=(ANY, ("kind", "a"), ("kind", "b"))):
+    """Some look, with one of the ends where it nests no further."""
+    sort = chance.choice(["not", "both", "either", "way", "end"]) if depth > 1 else "end"
+    if sort == "end":
+        return chance.choice(ends)
+    if sort == "way":
+        return ("way", some_way(chance, depth - 1, ends))
+    if sort == "not":
+        return ("not", some_look(chance, depth - 1, ends))
+    return (sort, some_look(chance, depth - 1, ends), some_look(chance, depth - 1, ends))
+
+
+def some_way(chance, depth, ends=(ANY, ("kind", "a"), ("kind", "b"))):
+    return tuple((chance.choice(["down", "deep", "later"]), some_look(chance, depth, ends))
+                 for number in range(chance.choice([1, 1, 2, 3])))
+
+
+def is_from_to(count, low, high):
+    return count >= low and (high is None or count <= high)
+
+
+def let_plainly(rule, names):
+    """What the document says of the rows that a rule lets by, for names of one letter each."""
+    order, items = rule[2], rule[3]
+    if order == "mix":
+        return all(is_from_to(names.count(name), low, high) for name, low, high in items) and all(
+            name in [item[0] for item in items] for name in names)
+    form = "".join(f"{name}{{{low},{'' if high is None else high}}}" for name, low, high in items)
+    return re.fullmatch(form, "".join(names)) is not None
 
 
 class PlainCase(unittest.TestCase):

@@ -43,6 +43,27 @@ def python_own(name):
     return name in dir(builtins) and not name.startswith("__")
 
 
+def with_parents():
+    """Each node with the one that it stands in."""
+    return [(name, child, node) for name, tree in trees() for node in ast.walk(tree)
+            for child in ast.iter_child_nodes(node)]
+
+
+def called(node):
+    """The name of what a call calls, "" for what is no call."""
+    if not isinstance(node, ast.Call):
+        return ""
+    return node.func.attr if isinstance(node.func, ast.Attribute) else node.func.id
+
+
+def drawn_from():
+    """For each file, those that it draws from."""
+    drawn = {path.stem: [] for path in files()}
+    for name, node in nodes(ast.ImportFrom):
+        drawn[name[:-len(".py")]].append(node.module.split(".")[1])
+    return drawn
+
+
 def bound_names(node):
     """The names that a node binds by itself."""
     if isinstance(node, ast.Name) and isinstance(node.ctx, ast.Store):
@@ -126,6 +147,33 @@ class FormTest(unittest.TestCase):
             for alias in node.names:
                 self.assertIn(alias.name, defined, name)
         self.assertEqual(nodes(ast.Import), [])
+
+    def test_no_files_draw_from_one_another(self):
+        drawn = drawn_from()
+        while drawn:
+            free = [name for name in drawn if not any(other in drawn for other in drawn[name])]
+            self.assertTrue(free, drawn)
+            drawn = {name: others for name, others in drawn.items() if name not in free}
+
+    def test_walked_at_once(self):
+        for name, node, parent in with_parents():
+            if called(node) in ("zip", "enumerate", "reversed", "range", "items", "keys", "values"):
+                walked = isinstance(parent, (ast.For, ast.comprehension)) and parent.iter is node
+                first = called(parent) in ("list", "tuple", "dict", "sorted", "sum", "any", "all", "enumerate", "zip",
+                                           "min", "max", "join") and parent.args[:1] == [node]
+                self.assertTrue(walked or first, (name, node.lineno))
+            if called(node) in ("set", "frozenset"):
+                self.assertTrue(isinstance(parent, (ast.Compare, ast.BinOp)) or called(parent) in ("sorted", "len"),
+                                (name, node.lineno))
+            self.assertNotIsInstance(node, ast.Set, name)
+
+    def test_locals_are_not_called_like_imports_or_classes(self):
+        for name, tree in trees():
+            taken = [alias.name for node in tree.body if isinstance(node, ast.ImportFrom) for alias in node.names]
+            taken += [node.name for node in tree.body if isinstance(node, ast.ClassDef)]
+            for node in ast.walk(tree):
+                if not isinstance(node, ast.ClassDef):
+                    self.assertFalse([bound for bound in bound_names(node) if bound in taken], name)
 
     def test_names(self):
         for name, node in nodes(ast.AST):

@@ -1,12 +1,10 @@
 """Rows of names that a rule lets by."""
 
 import itertools
-import re
 import unittest
 
+from helper import BOUNDS, is_from_to, let_plainly
 from pathshape.rules import lets
-
-BOUNDS = [(0, 0), (0, 1), (0, 2), (0, None), (1, 1), (1, 2), (1, None), (2, 2), (2, None)]
 
 ORDERS = ["row", "mix"]
 
@@ -14,20 +12,6 @@ ORDERS = ["row", "mix"]
 def rule_of(order, *items):
     """A rule by its items' names, lows and highs: "a", 0, 1, "b", 2, None."""
     return ("x", "k", order, tuple(zip(items[::3], items[1::3], items[2::3])))
-
-
-def within(count, low, high):
-    return count >= low and (high is None or count <= high)
-
-
-def let_plainly(rule, names):
-    """The words of the promise: names of one letter each."""
-    order, items = rule[2], rule[3]
-    if order == "mix":
-        return all(within(names.count(name), low, high) for name, low, high in items) and all(
-            name in [item[0] for item in items] for name in names)
-    form = "".join(f"{name}{{{low},{'' if high is None else high}}}" for name, low, high in items)
-    return re.fullmatch(form, "".join(names)) is not None
 
 
 def rows_of(letters, longest):
@@ -52,7 +36,7 @@ class LetsTest(unittest.TestCase):
         for order in ORDERS:
             for low, high in BOUNDS:
                 for count in [0, 1, 2, 3, 4, 99, 100, 130]:
-                    self.assertIs(lets(rule_of(order, "a", low, high), ["a"] * count), within(count, low, high),
+                    self.assertIs(lets(rule_of(order, "a", low, high), ["a"] * count), is_from_to(count, low, high),
                                   (order, low, high, count))
 
     def test_a_row_has_its_items_in_their_order(self):

@@ -2,28 +2,8 @@
 
 import unittest
 
-from helper import NO_NAMES, ReadCase
+from helper import ANY, LOOKS, NESTS, NO_NAMES, ReadCase
 from pathshape.reader import read_way
-
-ANY = ("any",)
-
-LOOKS = {"any": ANY,
-         "(kind a)": ("kind", "a"),
-         "(not any)": ("not", ANY),
-         "(both any (kind a))": ("both", ANY, ("kind", "a")),
-         "(both (kind a) any)": ("both", ("kind", "a"), ANY),
-         "(either (kind a) (kind b))": ("either", ("kind", "a"), ("kind", "b")),
-         "(way (down any))": ("way", (("down", ANY),)),
-         "(way (deep (kind a)) (later any))": ("way", (("deep", ("kind", "a")), ("later", ANY)))}
-
-# The text ahead of a look, the text behind it, and the value about it.
-NESTS = [("(not ", ")", lambda look: ("not", look)),
-         ("(both ", " any)", lambda look: ("both", look, ANY)),
-         ("(both any ", ")", lambda look: ("both", ANY, look)),
-         ("(either ", " (kind b))", lambda look: ("either", look, ("kind", "b"))),
-         ("(either (kind b) ", ")", lambda look: ("either", ("kind", "b"), look)),
-         ("(way (down ", "))", lambda look: ("way", (("down", look),))),
-         ("(way (deep any) (later ", "))", lambda look: ("way", (("deep", ANY), ("later", look))))]
 
 
 def with_look(look):

@@ -3,43 +3,20 @@
 import random
 import unittest
 
-from helper import PlainCase, all_trees, broad, chain, mixed_tree, spellings
+from helper import ANY, BOUNDS, LOOKS, NESTS, PlainCase, all_trees, broad, chain, mixed_tree, some_way, spellings
 from pathshape.errors import PathError
 from pathshape.reader import read_shape, read_tree, read_way
 from pathshape.sound import sound
 from pathshape.writer import show_look, show_shape, show_tree, show_way
 
-ANY = ("any",)
 MARK = ("mark",)
 
-LOOKS = {"any": ANY,
-         "mark": MARK,
-         "(kind a)": ("kind", "a"),
-         "(kind down)": ("kind", "down"),
-         "(kind abcdefgh)": ("kind", "abcdefgh"),
-         "(not any)": ("not", ANY),
-         "(not mark)": ("not", MARK),
-         "(both any (kind a))": ("both", ANY, ("kind", "a")),
-         "(both (kind a) any)": ("both", ("kind", "a"), ANY),
-         "(both mark (kind a))": ("both", MARK, ("kind", "a")),
-         "(either (kind a) (kind b))": ("either", ("kind", "a"), ("kind", "b")),
-         "(either any mark)": ("either", ANY, MARK),
-         "(way (down any))": ("way", (("down", ANY),)),
-         "(way (later mark))": ("way", (("later", MARK),)),
-         "(way (deep (kind a)) (later any))": ("way", (("deep", ("kind", "a")), ("later", ANY)))}
-
-# The text ahead of a look, the text behind it, and the value about it.
-NESTS = [("(not ", ")", lambda look: ("not", look)),
-         ("(both ", " any)", lambda look: ("both", look, ANY)),
-         ("(both (kind c) ", ")", lambda look: ("both", ("kind", "c"), look)),
-         ("(either ", " (kind b))", lambda look: ("either", look, ("kind", "b"))),
-         ("(either (not any) ", ")", lambda look: ("either", ("not", ANY), look)),
-         ("(way (down ", "))", lambda look: ("way", (("down", look),))),
-         ("(way (deep any) (later ", ") (down (kind d)))",
-          lambda look: ("way", (("deep", ANY), ("later", look), ("down", ("kind", "d")))))]
-
-BOUNDS = {"0 0": (0, 0), "0 1": (0, 1), "0 2": (0, 2), "0 many": (0, None), "1 1": (1, 1), "1 2": (1, 2),
-          "1 many": (1, None), "2 2": (2, 2), "2 many": (2, None)}
+WITH_MARK = {"mark": MARK,
+             "(not mark)": ("not", MARK),
+             "(both mark (kind a))": ("both", MARK, ("kind", "a")),
+             "(either any mark)": ("either", ANY, MARK),
+             "(way (later mark))": ("way", (("later", MARK),)),
+             "(way (down any) (deep mark))": ("way", (("down", ANY), ("deep", MARK)))}
 
 # Shapes that aren't sound, with their texts.
 UNSOUND = {"(start z (rule x a row))": ("z", (("x", "a", "row", ()),)),
@@ -49,23 +26,8 @@ UNSOUND = {"(start z (rule x a row))": ("z", (("x", "a", "row", ()),)),
            "(start y (rule x a mix (z 2 2) (z 2 2)))": ("y", (("x", "a", "mix", (("z", 2, 2), ("z", 2, 2))),))}
 
 
-def any_look(chance, depth):
-    """Some look without mark that nests no deeper."""
-    sort = chance.choice(["any", "kind"] if depth == 1 else ["kind", "not", "both", "either", "way"])
-    if sort == "any":
-        return ANY
-    if sort == "kind":
-        return ("kind", chance.choice(["a", "b", "deep", "zzzzzzzz"]))
-    if sort == "not":
-        return ("not", any_look(chance, depth - 1))
-    if sort == "way":
-        return ("way", any_way(chance, depth - 1))
-    return (sort, any_look(chance, depth - 1), any_look(chance, depth - 1))
-
-
-def any_way(chance, depth):
-    return tuple((chance.choice(["down", "deep", "later"]), any_look(chance, depth))
-                 for number in range(chance.randrange(1, 4)))
+def item_text(name, low, high):
+    return "(" + name + " " + str(low) + " " + ("many" if high is None else str(high)) + ")"
 
 
 class ShowCase(PlainCase):
@@ -131,10 +93,10 @@ class ShowShapeTest(ShowCase):
 
     def test_each_low_and_high(self):
         for order in ["row", "mix"]:
-            for text, (low, high) in BOUNDS.items():
+            for low, high in BOUNDS:
                 shape = ("x", (("x", "a", order, (("x", low, high),)),))
-                self.assert_each_spelling(show_shape, read_shape,
-                                          "(start x (rule x a " + order + " (x " + text + ")))", shape)
+                text = "(start x (rule x a " + order + " " + item_text("x", low, high) + "))"
+                self.assert_each_spelling(show_shape, read_shape, text, shape)
 
     def test_rules_and_items_in_their_order(self):
         text = "(start book (rule book b row (page 1 many) (note 0 2)) (rule note n mix) (rule page p mix (note 0 1)))"
@@ -158,8 +120,8 @@ class ShowShapeTest(ShowCase):
             self.assert_read_again(show_shape, read_shape, shape)
 
     def test_pairs_of_items_are_read_to_the_same(self):
-        for low, high in BOUNDS.values():
-            for least, most in BOUNDS.values():
+        for low, high in BOUNDS:
+            for least, most in BOUNDS:
                 items = (("x", low, high), ("y", least, most))
                 shape = ("x", (("x", "a", "row", items), ("y", "b", "mix", items[::-1]), ("y", "c", "row", ())))
                 self.assert_read_again(show_shape, read_shape, shape)
@@ -175,13 +137,13 @@ class ShowWayTest(ShowCase):
                                   (("down", ANY), ("deep", ("kind", "a")), ("later", ANY), ("down", ("kind", "b"))))
 
     def test_each_sort_of_look(self):
-        for text, look in LOOKS.items():
+        for text, look in (LOOKS | WITH_MARK).items():
             self.assert_shown(show_look(look), text)
             for go in ["down", "deep", "later"]:
                 self.assert_shown(show_way(((go, look),)), "(way (" + go + " " + text + "))")
 
     def test_looks_in_looks(self):
-        for text, look in LOOKS.items():
+        for text, look in (LOOKS | WITH_MARK).items():
             for ahead, behind, about in NESTS:
                 for outer, end, whole in NESTS:
                     shown = outer + ahead + text + behind + end
@@ -189,7 +151,7 @@ class ShowWayTest(ShowCase):
                     self.assert_shown(show_way((("deep", whole(about(look))),)), "(way (deep " + shown + "))")
 
     def test_a_way_as_a_look_is_shown_like_the_way(self):
-        for text, look in LOOKS.items():
+        for text, look in (LOOKS | WITH_MARK).items():
             way = (("down", look), ("later", look))
             self.assertEqual(show_look(("way", way)), show_way(way))
             self.assertEqual(show_way(way), "(way (down " + text + ") (later " + text + "))")
@@ -221,7 +183,7 @@ class ShowWayTest(ShowCase):
     def test_what_is_shown_is_read_to_the_same(self):
         chance = random.Random(9)
         for number in range(300):
-            self.assert_read_again(show_way, read_way, any_way(chance, number % 4 + 1))
+            self.assert_read_again(show_way, read_way, some_way(chance, number % 5 + 1))
 
 
 if __name__ == "__main__":
