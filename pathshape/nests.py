@@ -17,6 +17,15 @@ def look_parts(look):
     return []
 
 
+def look_with(look, parts):
+    # The same look with other parts.
+    if look[0] == "way":
+        return ("way", tuple([(step[0], part) for step, part in zip(look[1], parts)]))
+    if len(parts) == 0:
+        return look
+    return (look[0],) + tuple(parts)
+
+
 def all_within(top, parts_of):
     # A thing comes ahead of its parts, and a part with all that is in it ahead of the next part.
     found = []

@@ -1,10 +1,13 @@
 """What the tests share."""
 
+import itertools
 import random
 import re
 import unittest
 
 from pathshape import errors
+from pathshape.places import gone_to, tree_at
+from pathshape.reader import read_shape
 
 KEPT_WORDS = ["start", "rule", "row", "mix", "many", "any", "kind", "not", "both", "either", "way", "mark"]
 
@@ -37,6 +40,12 @@ NESTS = [("(not ", ")", lambda look: ("not", look)),
 
 # Each low and high that an item may have.
 BOUNDS = [(0, 0), (0, 1), (0, 2), (0, None), (1, 1), (1, 2), (1, None), (2, 2), (2, None)]
+
+# Shapes of which only the trees with two parts of the kind l at the top have just so many places, and others fewer.
+SIZED = {60: read_shape("(start a (rule a k row (c 2 2) (b 0 2) (d 1 1)) (rule b l row (c 2 2) (d 1 1))"
+                        "(rule c m row (d 2 2) (e 1 1)) (rule d n row (e 2 2)) (rule e o row))"),
+         61: read_shape("(start a (rule a k row (c 2 2) (b 0 2) (e 2 2)) (rule b l row (c 2 2) (d 1 1) (e 1 1))"
+                        "(rule c m row (d 2 2) (e 1 1)) (rule d n row (e 2 2)) (rule e o row))")}
 
 REFUSALS = (errors.NoText, errors.NoShape, errors.NoSort, errors.NoRow, errors.NoName, errors.Twice, errors.NoRule,
             errors.TooGreat)
@@ -142,6 +151,115 @@ def let_plainly(rule, names):
             name in [item[0] for item in items] for name in names)
     form = "".join(f"{name}{{{low},{'' if high is None else high}}}" for name, low, high in items)
     return re.fullmatch(form, "".join(names)) is not None
+
+
+def holds_plainly(tree, look, place, marked=None):
+    """The words of the document, one by one."""
+    if look[0] == "any":
+        return True
+    if look[0] == "mark":
+        return place == marked
+    if look[0] == "kind":
+        return tree_at(tree, place)[0] == look[1]
+    if look[0] == "not":
+        return not holds_plainly(tree, look[1], place, marked)
+    if look[0] == "both":
+        return holds_plainly(tree, look[1], place, marked) and holds_plainly(tree, look[2], place, marked)
+    if look[0] == "either":
+        return holds_plainly(tree, look[1], place, marked) or holds_plainly(tree, look[2], place, marked)
+    return finds_plainly(tree, look[1], place, marked) != []
+
+
+def finds_plainly(tree, way, place, marked=None):
+    found = {place}
+    for go, look in way:
+        gone = {other for one in found for other in gone_to(tree, go, one)}
+        found = {other for other in gone if holds_plainly(tree, look, other, marked)}
+    return sorted(found)
+
+
+def put_back(rows, look):
+    """The look with its ways in it again."""
+    if look[0] == "from":
+        steps = []
+        number = look[1]
+        while number is not None:
+            go, inner, number = rows[number]
+            steps.append((go, put_back(rows, inner)))
+        return ("way", tuple(steps))
+    if look[0] == "kind":
+        return look
+    return (look[0],) + tuple(put_back(rows, part) for part in look[1:])
+
+
+def some_shape(chance):
+    """A sound shape of a few rules, with the names u to x and the kinds a and b."""
+    names = "uvwx"[:chance.choice([1, 2, 3, 4])]
+    rules = []
+    for name in names + "".join(chance.choice(names) for number in range(chance.choice([0, 1, 2, 4]))):
+        items = tuple((item, *chance.choice(BOUNDS)) for item in chance.sample(names, chance.randrange(len(names))))
+        rules.append((name, chance.choice("ab"), chance.choice(["row", "mix"]), items[:3]))
+    return (chance.choice(names), tuple(rules))
+
+
+def rich_shape(chance):
+    """A sound shape of three to five rules, with the kinds a and b, most of whose lows are 0."""
+    names = "uvw"[:chance.choice([2, 3])]
+    bounds = BOUNDS + BOUNDS[1:4] * 4
+    rules = tuple((name, chance.choice("ab"), chance.choice(["row", "mix"]), tuple(
+        (item, *chance.choice(bounds)) for item in chance.sample(names, chance.choice([0, 1, 2, 2, len(names)]))))
+        for name in names + "".join(chance.choice(names) for number in range(chance.choice([1, 2]))))
+    return (chance.choice(names), rules)
+
+
+def rows_of_named(by_size, size):
+    """All rows of trees that have names, with so many places together."""
+    if size == 0:
+        return [()]
+    return [(tree,) + rest for first in range(1, size + 1) for tree in by_size[first]
+            for rest in rows_of_named(by_size, size - first)]
+
+
+def named_trees(shape, most):
+    """All trees of up to so many places that have names, and these, by the plain words."""
+    named = {}
+    by_size = {}
+    for size in range(1, most + 1):
+        by_size[size] = []
+        for parts in rows_of_named(by_size, size - 1):
+            rows = [list(row) for row in itertools.product(*[named[part] for part in parts])]
+            for kind in sorted({rule[1] for rule in shape[1]}):
+                rules = [rule for rule in shape[1] if rule[1] == kind]
+                names = {rule[0] for rule in rules if any(let_plainly(rule, row) for row in rows)}
+                if names:
+                    named[(kind, parts)] = sorted(names)
+                    by_size[size].append((kind, parts))
+    return named
+
+
+def trees_of(shape, most):
+    """All trees of the shape of up to so many places, the smallest first."""
+    return [tree for tree, names in named_trees(shape, most).items() if shape[0] in names]
+
+
+def size_of(tree):
+    return 1 + sum(size_of(part) for part in tree[1])
+
+
+def renumbered(look, numbers):
+    if look[0] == "from":
+        return ("from", numbers[look[1]])
+    if look[0] in ("not", "both", "either"):
+        return (look[0],) + tuple(renumbered(part, numbers) for part in look[1:])
+    return look
+
+
+def reordered(rows, look, numbers):
+    """The table with row j at the place numbers[j], and the look by it."""
+    changed = [None] * len(rows)
+    for j, (go, inner, rest) in enumerate(rows):
+        changed[numbers[j]] = (go, renumbered(inner, numbers), None if rest is None else numbers[rest])
+    return (tuple(changed), renumbered(look, numbers))
 
 
 class PlainCase(unittest.TestCase):

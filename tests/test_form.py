@@ -22,6 +22,11 @@ PYTHON_METHODS = """append clear copy count endswith extend find get index inser
 isspace isupper items join keys ljust lower lstrip partition pop remove replace reverse rfind rjust rpartition rsplit
 rstrip setdefault split splitlines startswith strip update upper values zfill bit_length""".split()
 
+# What a value of an object may be called, though Python's own values have something of that name.
+FREE_VALUES = "count index title find get join lower upper split strip copy add".split()
+
+PYTHON_VALUES = (str, int, list, dict, tuple, set, frozenset, bytes, bytearray)
+
 WORDS_OUT = re.compile(r"\b(type|typing|typing_extensions|enum|Enum|IntEnum|StrEnum|Flag|IntFlag|Generic|Protocol|ABC"
                        r"|ABCMeta|namedtuple|NamedTuple|TypedDict|TYPE_CHECKING|abstractmethod)\b"
                        r"|dataclass|overload|contextmanager")
@@ -118,6 +123,7 @@ class FormTest(unittest.TestCase):
                     self.assertIsInstance(node.value, ast.Call, where)
                 if isinstance(node, ast.Assign):
                     self.assertEqual(len(node.targets), 1, where)
+                    self.assertNotIsInstance(node.targets[0], (ast.Tuple, ast.List), where)
                 if isinstance(node, (ast.For, ast.While)):
                     self.assertFalse(node.orelse, where)
 
@@ -188,6 +194,28 @@ class FormTest(unittest.TestCase):
         for name, node in nodes(ast.Call):
             if isinstance(node.func, ast.Attribute):
                 self.assertIn(node.func.attr, PYTHON_METHODS + own, (name, node.lineno))
+
+    def test_values_of_objects(self):
+        own = [part.name for name, node in nodes(ast.ClassDef) for part in node.body
+               if isinstance(part, ast.FunctionDef) and part.name != "__init__"]
+        kept = [(name, node.attr) for name, node in nodes(ast.Attribute) if isinstance(node.ctx, ast.Store)]
+        for name, value in kept:
+            self.assertNotIn(value, own, name)
+        for value in own + [value for name, value in kept]:
+            if value not in FREE_VALUES:
+                self.assertFalse([one for one in PYTHON_VALUES if hasattr(one, value)], value)
+
+    def test_methods_are_not_handed_on(self):
+        own = [node.name for name, node in nodes(ast.FunctionDef)]
+        for name, node, parent in with_parents():
+            if isinstance(node, ast.Attribute) and node.attr in PYTHON_METHODS + own:
+                self.assertTrue(isinstance(parent, ast.Call) and parent.func is node, (name, node.lineno))
+
+    def test_keywords(self):
+        free = {"sorted": ["key", "reverse"], "min": ["key", "default"], "max": ["key", "default"]}
+        for name, node in nodes(ast.Call):
+            for word in node.keywords:
+                self.assertIn(word.arg, free.get(called(node), []), (name, node.lineno))
 
     def test_tops(self):
         for name, tree in trees():

@@ -4,7 +4,7 @@ import itertools
 import random
 import unittest
 
-from helper import BOUNDS, PlainCase, all_trees, broad, chain, let_plainly, mixed_tree
+from helper import PlainCase, all_trees, broad, chain, let_plainly, mixed_tree, some_shape
 from pathshape.errors import NoShape
 from pathshape.marking import has, marking, names_of
 from pathshape.places import all_places, tree_at
@@ -21,16 +21,6 @@ def names_plainly(shape, tree):
     below = [names_plainly(shape, part) for part in tree[1]]
     return {rule[0] for rule in shape[1] if rule[1] == tree[0] and any(
         let_plainly(rule, list(row)) for row in itertools.product(*below))}
-
-
-def some_shape(chance):
-    """A sound shape of a few rules, with the names u to x and the kinds a and b."""
-    names = "uvwx"[:chance.choice([1, 2, 3, 4])]
-    rules = []
-    for name in names + "".join(chance.choice(names) for number in range(chance.choice([0, 1, 2, 4]))):
-        items = tuple((item, *chance.choice(BOUNDS)) for item in chance.sample(names, chance.randrange(len(names))))
-        rules.append((name, chance.choice("ab"), chance.choice(["row", "mix"]), items[:3]))
-    return (chance.choice(names), tuple(rules))
 
 
 class MarkingCase(PlainCase):

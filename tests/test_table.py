@@ -3,9 +3,9 @@
 import random
 import unittest
 
-from helper import ANY, LOOKS, NESTS, PlainCase, some_look
+from helper import ANY, LOOKS, NESTS, PlainCase, put_back, some_look
 from pathshape.sound import steps_in
-from pathshape.table import table_of
+from pathshape.table import merged_table_of, table_of
 
 A = ("kind", "a")
 B = ("kind", "b")
@@ -24,20 +24,6 @@ def come_to(rows, look):
     if look[0] == "kind":
         return []
     return [number for part in look[1:] for number in come_to(rows, part)]
-
-
-def put_back(rows, look):
-    """The look with its ways in it again."""
-    if look[0] == "from":
-        steps = []
-        number = look[1]
-        while number is not None:
-            go, inner, number = rows[number]
-            steps.append((go, put_back(rows, inner)))
-        return ("way", tuple(steps))
-    if look[0] == "kind":
-        return look
-    return (look[0],) + tuple(put_back(rows, part) for part in look[1:])
 
 
 class TableTest(PlainCase):
@@ -139,6 +125,32 @@ class TableTest(PlainCase):
     def test_the_same_answer_again(self):
         for look in LOOKS.values():
             self.assertEqual(table_of(look), table_of(look))
+
+
+class MergedTest(PlainCase):
+    def assert_merged(self, look, count):
+        rows, changed = merged_table_of(look)
+        self.assert_plain((rows, changed))
+        self.assertEqual(len(rows), count, look)
+        self.assertEqual(len(set(rows)), count)
+        self.assertEqual(put_back(rows, changed), look)
+
+    def test_the_same_steps_have_one_row(self):
+        way = ("way", (("deep", A), ("down", B)))
+        self.assert_merged(way, 2)
+        self.assert_merged(("both", way, way), 2)
+        self.assert_merged(("way", (("down", way), ("down", way))), 4)
+        self.assert_merged(("both", ("way", (("down", A), ("down", B))), ("way", (("deep", A), ("down", B)))), 3)
+        self.assert_merged(("both", ("way", (("down", A), ("down", B))), ("way", (("down", A), ("deep", B)))), 4)
+        self.assert_merged(("either", ("way", (("down", A),)), ("way", (("down", MARK),))), 2)
+
+    def test_many_looks(self):
+        chance = random.Random(32)
+        for number in range(500):
+            look = some_look(chance, number % 6 + 1, (ANY, A, B, MARK))
+            rows, changed = merged_table_of(look)
+            self.assert_merged(look, len(rows))
+            self.assertLessEqual(len(rows), len(table_of(look)[0]))
 
 
 if __name__ == "__main__":

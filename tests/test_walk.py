@@ -3,8 +3,9 @@
 import random
 import unittest
 
-from helper import ANY, LOOKS, PlainCase, all_trees, broad, chain, mixed_tree, some_look, some_way
-from pathshape.places import all_places, gone_to, tree_at
+from helper import ANY, LOOKS, PlainCase, all_trees, broad, chain, finds_plainly, holds_plainly, mixed_tree
+from helper import some_look, some_way
+from pathshape.places import all_places
 from pathshape.reader import read_tree, read_way
 from pathshape.walk import finds, holds
 
@@ -15,29 +16,6 @@ C = ("kind", "c")
 TREE = read_tree("(a (b (a) (c (b))) (b) (c (b (a))))")
 
 GOES = ["down", "deep", "later"]
-
-
-def holds_plainly(tree, look, place):
-    """The words of the document, one by one."""
-    if look[0] == "any":
-        return True
-    if look[0] == "kind":
-        return tree_at(tree, place)[0] == look[1]
-    if look[0] == "not":
-        return not holds_plainly(tree, look[1], place)
-    if look[0] == "both":
-        return holds_plainly(tree, look[1], place) and holds_plainly(tree, look[2], place)
-    if look[0] == "either":
-        return holds_plainly(tree, look[1], place) or holds_plainly(tree, look[2], place)
-    return finds_plainly(tree, look[1], place) != []
-
-
-def finds_plainly(tree, way, place):
-    found = {place}
-    for go, look in way:
-        gone = {other for one in found for other in gone_to(tree, go, one)}
-        found = {other for other in gone if holds_plainly(tree, look, other)}
-    return sorted(found)
 
 
 def way_look(*steps):
